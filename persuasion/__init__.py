@@ -1,0 +1,1 @@
+"""Persuasion: what telling can bring about."""

@@ -1,0 +1,169 @@
+"""Settings, wrong values and an independent reckoning, for the tests."""
+
+import random
+from fractions import Fraction
+from itertools import combinations
+
+NIL, ONE, HALF, THIRD, LESS = (0, 1), (1, 1), (1, 2), (1, 3), (-1, 1)
+COURT = (((ONE, NIL), (NIL, ONE)), ((NIL, NIL), (ONE, ONE)))
+IDLE = (((ONE, NIL), (NIL, ONE), (THIRD, THIRD)), ((NIL, NIL), (ONE, ONE), (NIL, ONE)))
+PRIOR = ((7, 10), (3, 10))
+
+
+def nested(kind, depth):
+    """A value of so many tuples or lists, one in the other."""
+    out = kind()
+    for _ in range(depth - 1):
+        out = kind([out])
+    return out
+
+
+class Odd:
+    """An object that does not let itself be compared, measured or tested."""
+
+    def __eq__(self, other):
+        raise AssertionError("compared")
+
+    def __len__(self):
+        raise AssertionError("measured")
+
+    def __bool__(self):
+        raise AssertionError("tested")
+
+    def __iter__(self):
+        raise AssertionError("iterated")
+
+
+def anything():
+    """Values that are no setting, belief, fraction or index."""
+    return [
+        None, True, False, "", "ab", "0", b"", b"ab", (), (()), ((),), ((), ()), [], [[], []], {}, {0: 1, 1: 0},
+        set(), frozenset([0]), range(2), object(), Odd(), len, int, Odd, -1, -10 ** 500, 10 ** 500, 1j,
+        Fraction(1, 2), (None, None), (Odd(), Odd()), ((Odd(),), (Odd(),)), ("ab", "ab"), (True, False),
+        nested(tuple, 60), nested(list, 60), (nested(tuple, 59), nested(tuple, 59)), (0,) * 1000,
+        ((ONE,) * 1000,) * 2,
+    ]
+
+
+WRONG_FRACTIONS = [
+    (2, 2), (0, 2), (0, 7), (6, 4), (-4, 2), (1, 0), (0, 0), (1, -1), (-1, -1), (0, -1), (-1, -2),
+    (10 ** 400, 10), (True, 1), (False, 1), (1, True), (True, True), (0, True), (1,), (1, 1, 1), (), [1, 1], [0, 1],
+    1, 0, None, True, "11", "1/2", b"11", (1, "1"), ("1", 1), (1, None), ((1, 1), 1), ((1, 1), (1, 1)), (1, (1,)),
+    {1: 1, 2: 2}, Fraction(1, 2), (Fraction(1), 1), (1, Fraction(1)), (1j, 1), Odd(), (Odd(), 1), (1, Odd()),
+    nested(tuple, 50), nested(list, 50),
+]
+
+
+def put(table, path, part):
+    """A tuple of tuples with another part at the place that the path tells."""
+    if not path:
+        return part
+    k = path[0]
+    return table[:k] + (put(table[k], path[1:], part),) + table[k + 1:]
+
+
+def as_lists(value):
+    return [as_lists(part) for part in value] if isinstance(value, tuple) else value
+
+
+def pair(number):
+    number = Fraction(number)
+    return (number.numerator, number.denominator)
+
+
+def row(*numbers):
+    return tuple(pair(number) for number in numbers)
+
+
+def table(*rows):
+    return tuple(row(*numbers) for numbers in rows)
+
+
+def number_of(fraction):
+    return Fraction(fraction[0], fraction[1])
+
+
+def numbers(fractions):
+    return [number_of(fraction) for fraction in fractions]
+
+
+def random_table(chance, actions, states, most=3, below=3):
+    return tuple(
+        tuple(pair(Fraction(chance.randint(-most, most), chance.randint(1, below))) for _ in range(states))
+        for _ in range(actions)
+    )
+
+
+def random_settings(seed, many):
+    """Small settings of all sizes, in turn, with ties among them."""
+    chance = random.Random(seed)
+    out = []
+    for k in range(many):
+        states, actions = 2 + k % 3, 1 + (k // 3) % 5
+        most, below = chance.choice([(1, 1), (2, 1), (3, 3), (9, 7)])
+        pays = random_table(chance, actions, states, most, below)
+        if actions > 1 and chance.random() < 0.25:
+            pays = pays[:-1] + pays[:1]
+        out.append((pays, random_table(chance, actions, states, most, below)))
+    return out
+
+
+def grid(states, parts):
+    """All beliefs whose numbers are so manieth parts."""
+    def lead(left, places):
+        if places == 1:
+            return [[left]]
+        return [[k] + rest for k in range(left + 1) for rest in lead(left - k, places - 1)]
+    return [row(*[Fraction(k, parts) for k in belief]) for belief in lead(parts, states)]
+
+
+def at(fractions, belief):
+    """The number of a row at a belief."""
+    return sum(x * y for x, y in zip(numbers(fractions), numbers(belief)))
+
+
+def only_answer(equations):
+    """The only answer of n equations of n numbers, each with its right side last; None."""
+    left = [list(equation) for equation in equations]
+    many = len(left)
+    for k in range(many):
+        swap = [j for j in range(k, many) if left[j][k] != 0]
+        if not swap:
+            return None
+        left[k], left[swap[0]] = left[swap[0]], left[k]
+        left[k] = [number / left[k][k] for number in left[k]]
+        for j in range(many):
+            if j != k:
+                left[j] = [x - left[j][k] * y for x, y in zip(left[j], left[k])]
+    return [equation[-1] for equation in left]
+
+
+def corners_by_equations(setting, action):
+    """The corners of a cell, worked out from the words of point 8."""
+    pays = [numbers(fractions) for fractions in setting[0]]
+    states = len(pays[0])
+    lets = [[Fraction(int(k == s)) for k in range(states)] + [Fraction(0)] for s in range(states)]
+    for other in range(len(pays)):
+        if other != action:
+            lets.append([x - y for x, y in zip(pays[action], pays[other])] + [Fraction(0)])
+    found = set()
+    for chosen in combinations(lets, states - 1):
+        answer = only_answer([[Fraction(1)] * (states + 1)] + list(chosen))
+        if answer is not None and all(sum(x * y for x, y in zip(let, answer)) >= 0 for let in lets):
+            found.add(tuple(answer))
+    return tuple(row(*belief) for belief in sorted(found))
+
+
+def rank(rows):
+    """How many of the rows are independent."""
+    left = [numbers(fractions) for fractions in rows]
+    many = 0
+    for k in range(len(left[0]) if left else 0):
+        lead = [j for j in range(many, len(left)) if left[j][k] != 0]
+        if lead:
+            left[many], left[lead[0]] = left[lead[0]], left[many]
+            for j in range(many + 1, len(left)):
+                share = left[j][k] / left[many][k]
+                left[j] = [x - share * y for x, y in zip(left[j], left[many])]
+            many += 1
+    return many
