@@ -1,6 +1,7 @@
 """Settings, wrong values and an independent reckoning, for the tests."""
 
 import random
+import unittest
 from fractions import Fraction
 from itertools import combinations
 
@@ -52,6 +53,14 @@ WRONG_FRACTIONS = [
     {1: 1, 2: 2}, Fraction(1, 2), (Fraction(1), 1), (1, Fraction(1)), (1j, 1), Odd(), (Odd(), 1), (1, Odd()),
     nested(tuple, 50), nested(list, 50),
 ]
+
+
+class GivenCase(unittest.TestCase):
+    def assert_given(self, kind, given, call, *args, **named):
+        with self.assertRaises(kind) as caught:
+            call(*args, **named)
+        self.assertIs(caught.exception.__class__, kind)
+        self.assertIs(caught.exception.given, given)
 
 
 def put(table, path, part):

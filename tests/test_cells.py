@@ -7,8 +7,8 @@ from persuasion.cells import cell_corners, corners, is_full, never_best
 from persuasion.errors import InvalidAction, InvalidSetting
 from persuasion.settings import best_actions, sure, value
 from samples import (
-    COURT, HALF, IDLE, NIL, ONE, anything, as_lists, at, corners_by_equations, grid, nested, number_of, numbers, pair,
-    random_settings, rank, row, table,
+    COURT, HALF, IDLE, NIL, ONE, GivenCase, anything, as_lists, at, corners_by_equations, grid, nested, number_of,
+    numbers, pair, random_settings, rank, row, table,
 )
 
 
@@ -203,13 +203,7 @@ def goes_on(setting, action, belief, other):
     return action in best_actions(setting, row(*behind))
 
 
-class ErrorsTest(unittest.TestCase):
-    def assert_given(self, kind, given, call, *args, **named):
-        with self.assertRaises(kind) as caught:
-            call(*args, **named)
-        self.assertIs(caught.exception.__class__, kind)
-        self.assertIs(caught.exception.given, given)
-
+class ErrorsTest(GivenCase):
     def test_settings(self):
         for wrong in anything() + [as_lists(COURT), (COURT[0], COURT[1][:1]), COURT[:1]]:
             self.assert_given(InvalidSetting, wrong, cell_corners, wrong, 0)

@@ -73,8 +73,9 @@ class LanguageTest(unittest.TestCase):
     def test_imported_names_are_used_and_not_shadowed(self):
         for name, _, tree in sources():
             taken = [part.name for node in imports(tree) for part in node.names]
-            used = {node.id for node in ast.walk(tree) if isinstance(node, ast.Name) and isinstance(node.ctx, ast.Load)}
-            bound = {node.id for node in ast.walk(tree) if isinstance(node, ast.Name) and not isinstance(node.ctx, ast.Load)}
+            named = [node for node in ast.walk(tree) if isinstance(node, ast.Name)]
+            used = {node.id for node in named if isinstance(node.ctx, ast.Load)}
+            bound = {node.id for node in named if not isinstance(node.ctx, ast.Load)}
             bound |= {node.arg for node in ast.walk(tree) if isinstance(node, ast.arg)}
             self.assertEqual([word for word in taken if word not in used], [], name)
             self.assertEqual([word for word in taken if word in bound], [], name)

@@ -6,8 +6,8 @@ from persuasion import settings
 from persuasion.errors import InvalidAction, InvalidBelief, InvalidSetting, InvalidState
 from persuasion.settings import best_actions, choice, is_belief, is_setting, pay, sure, value, worth
 from samples import (
-    COURT, HALF, IDLE, LESS, NIL, ONE, PRIOR, THIRD, WRONG_FRACTIONS, anything, as_lists, at, grid, nested, number_of,
-    numbers, pair, put, random_settings, row, table,
+    COURT, HALF, IDLE, LESS, NIL, ONE, PRIOR, THIRD, WRONG_FRACTIONS, GivenCase, anything, as_lists, at, grid, nested,
+    number_of, numbers, pair, put, random_settings, row, table,
 )
 
 GREAT = 10 ** 399 + 7
@@ -249,16 +249,12 @@ WRONG_INDEXES = (
     -1, 2, 3, 10 ** 500, -10 ** 500, True, False, None, "0", "", b"0", (0,), [0], (0, 1), {0: 0}, 1j, object(),
     nested(tuple, 60), nested(list, 60),
 )
-WRONG_SETTINGS = anything() + [as_lists(COURT), (COURT[0], COURT[1][:1]), setting_of(6, 2), setting_of(1, 5), COURT + COURT]
+WRONG_SETTINGS = anything() + [
+    as_lists(COURT), (COURT[0], COURT[1][:1]), setting_of(6, 2), setting_of(1, 5), COURT + COURT,
+]
 
 
-class ErrorsTest(unittest.TestCase):
-    def assert_given(self, kind, given, call, *args, **named):
-        with self.assertRaises(kind) as caught:
-            call(*args, **named)
-        self.assertIs(caught.exception.__class__, kind)
-        self.assertIs(caught.exception.given, given)
-
+class ErrorsTest(GivenCase):
     def test_settings(self):
         for wrong in WRONG_SETTINGS:
             self.assert_given(InvalidSetting, wrong, is_belief, wrong, PRIOR)
