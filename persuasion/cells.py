@@ -51,7 +51,11 @@ def is_full_in(setting, action):
 
 def corners_in(setting):
     """The ascending tuple of the corners of all cells."""
-    actions = range(action_count(setting))
+    return corners_of(setting, list(range(action_count(setting))))
+
+
+def corners_of(setting, actions):
+    """The ascending tuple of the corners of the cells of these actions."""
     return ascending([corner for action in actions for corner in cell_corners_in(setting, action)])
 
 

@@ -50,6 +50,26 @@ def lowest(above, below):
     return (above // shared, below // shared)
 
 
+def times(left, right):
+    """The product of two fractions."""
+    return lowest(left[0] * right[0], left[1] * right[1])
+
+
+def over(left, right):
+    """A fraction over another one, which is above 0."""
+    return lowest(left[0] * right[1], left[1] * right[0])
+
+
+def plus(left, right):
+    """The sum of two fractions."""
+    return lowest(left[0] * right[1] + right[0] * left[1], left[1] * right[1])
+
+
+def minus(left, right):
+    """A fraction less another one."""
+    return lowest(left[0] * right[1] - right[0] * left[1], left[1] * right[1])
+
+
 def row_product(row, other):
     """The sum of the products, number by number, of two rows."""
     above, below = 0, 1
@@ -66,7 +86,22 @@ def row_sum(row):
 
 def row_difference(row, other):
     """A row less another one, number by number."""
-    return tuple([lowest(n * d - k * m, m * d) for (n, m), (k, d) in zip(row, other)])
+    return tuple([minus(left, right) for left, right in zip(row, other)])
+
+
+def opposite(row):
+    """A row with all signs changed."""
+    return tuple([(-above, below) for above, below in row])
+
+
+def unit_row(k, many):
+    """The row of so many numbers that is 1 at k, otherwise 0."""
+    return tuple([ONE if j == k else NIL for j in range(many)])
+
+
+def unit_rows(many):
+    """All such rows of so many numbers."""
+    return [unit_row(k, many) for k in range(many)]
 
 
 def is_less(left, right):
@@ -99,6 +134,11 @@ def ascending(rows):
     return tuple(out)
 
 
+def are_ascending(rows):
+    """Whether each row is below the next one."""
+    return all([is_row_less(row, other) for row, other in zip(rows, rows[1:])])
+
+
 def place_in(rows, row):
     """How many of the ascending rows are below a row."""
     low, high = 0, len(rows)
@@ -111,9 +151,15 @@ def place_in(rows, row):
     return low
 
 
-def whole_row(row):
-    """Whole numbers in the same ratios: the row times a number above 0."""
+def scale_of(row):
+    """The least whole number above 0 times which the row is of whole numbers."""
     scale = 1
     for _, below in row:
         scale = lcm(scale, below)
+    return scale
+
+
+def whole_row(row):
+    """Whole numbers in the same ratios: the row times its scale."""
+    scale = scale_of(row)
     return [above * (scale // below) for above, below in row]

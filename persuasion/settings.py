@@ -4,7 +4,7 @@ The functions whose names end in _at take arguments that were checked ahead.
 """
 
 from persuasion.errors import InvalidAction, InvalidBelief, InvalidSetting, InvalidState
-from persuasion.ratios import NIL, ONE, greatest, is_index, is_row, is_row_of_chances, row_product
+from persuasion.ratios import greatest, is_index, is_row, is_row_of_chances, row_product, unit_row, unit_rows
 
 
 def is_setting(value):
@@ -71,7 +71,7 @@ def sure(setting, state):
     """The belief that is sure of the state."""
     check_setting(setting)
     check_state(setting, state)
-    return tuple([ONE if k == state else NIL for k in range(state_count(setting))])
+    return unit_row(state, state_count(setting))
 
 
 def pay(setting, action, belief):
@@ -130,3 +130,8 @@ def value_at(setting, belief):
     worths = setting[1]
     best = best_actions_at(setting, belief)
     return greatest([row_product(worths[action], belief) for action in best])
+
+
+def sure_values(setting):
+    """The row of the values at the sure beliefs."""
+    return tuple([value_at(setting, belief) for belief in unit_rows(state_count(setting))])

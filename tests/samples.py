@@ -1,8 +1,10 @@
 """Settings, wrong values and an independent reckoning, for the tests."""
 
+import inspect
 import random
 import unittest
 from fractions import Fraction
+from functools import lru_cache
 from itertools import combinations
 
 NIL, ONE, HALF, THIRD, LESS = (0, 1), (1, 1), (1, 2), (1, 3), (-1, 1)
@@ -61,6 +63,27 @@ class GivenCase(unittest.TestCase):
             call(*args, **named)
         self.assertIs(caught.exception.__class__, kind)
         self.assertIs(caught.exception.given, given)
+
+    def assert_errors(self, call, good, told):
+        """Of good arguments by name, each one wrong in all told ways, by position and by name, alone and with others."""
+        words = list(good)
+        for k, word in enumerate(words):
+            kind, wrongs = told.get(word, (None, ()))
+            for wrong in wrongs:
+                given = {**good, word: wrong}
+                self.assert_given(kind, wrong, call, *given.values())
+                self.assert_given(kind, wrong, call, **given)
+            for other in words[k + 1:] if wrongs else []:
+                given = {**good, other: None, word: wrongs[0]}
+                self.assert_given(kind, wrongs[0], call, *given.values())
+                self.assert_given(kind, wrongs[0], call, **dict(reversed(given.items())))
+
+    def assert_interface(self, module, told):
+        """Whether a module itself defines the told functions, with the told parameters."""
+        for name, words in told.items():
+            call = getattr(module, name)
+            self.assertEqual(call.__module__, module.__name__)
+            self.assertEqual(list(inspect.signature(call).parameters), words.split())
 
 
 def put(table, path, part):
@@ -147,6 +170,7 @@ def only_answer(equations):
     return [equation[-1] for equation in left]
 
 
+@lru_cache(maxsize=None)
 def corners_by_equations(setting, action):
     """The corners of a cell, worked out from the words of point 8."""
     pays = [numbers(fractions) for fractions in setting[0]]
@@ -176,3 +200,82 @@ def rank(rows):
                 left[j] = [x - share * y for x, y in zip(left[j], left[many])]
             many += 1
     return many
+
+
+def value_at(setting, belief):
+    """The value at a belief, worked out from the words of point 7."""
+    paid = [at(told, belief) for told in setting[0]]
+    return max(at(setting[1][k], belief) for k in range(len(paid)) if paid[k] == max(paid))
+
+
+def is_best(setting, action, belief):
+    """Whether an action is best at a belief, worked out from the words of point 7."""
+    paid = [at(told, belief) for told in setting[0]]
+    return paid[action] == max(paid)
+
+
+def is_row_of(value, many):
+    """Whether a value is a tuple of so many pairs in lowest terms, told in whole numbers."""
+    return type(value) is tuple and len(value) == many and all(
+        type(x) is tuple and [type(part) for part in x] == [int, int] and pair(number_of(x)) == x for x in value
+    )
+
+
+def is_chances(value, many):
+    """Whether a value is a row of so many chances that add up to 1."""
+    return is_row_of(value, many) and min(numbers(value)) >= 0 and sum(numbers(value)) == 1
+
+
+def is_split_by_sums(prior, split):
+    """Whether a value is a split of a prior, worked out from the words of point 9."""
+    states = len(prior)
+    if type(split) is not tuple or not all(type(part) is tuple and len(part) == 2 for part in split):
+        return False
+    if not all(is_row_of((weight,), 1) and is_chances(belief, states) for weight, belief in split):
+        return False
+    weights, beliefs = [number_of(weight) for weight, _ in split], [numbers(belief) for _, belief in split]
+    return (
+        sum(weights) == 1 and min(weights) > 0 and all(x < y for x, y in zip(beliefs, beliefs[1:]))
+        and [sum(w * b[s] for w, b in zip(weights, beliefs)) for s in range(states)] == numbers(prior)
+    )
+
+
+def random_belief(chance, states, parts=12):
+    """A belief of few parts, often with chances of 0."""
+    left = [0] * states
+    for _ in range(parts):
+        left[chance.choice([chance.randrange(states), 0, states - 1])] += 1
+    return row(*[Fraction(k, parts) for k in left])
+
+
+def priors_for(chance, states, many):
+    """A sure prior, the middle, and so many others."""
+    sure = row(*[int(k == states - 1) for k in range(states)])
+    middle = row(*[Fraction(1, states)] * states)
+    return [sure, middle] + [random_belief(chance, states, chance.randint(1, 12)) for _ in range(many)]
+
+
+def random_split(chance, states, many):
+    """A prior and a split of it into so many beliefs."""
+    beliefs = set()
+    while len(beliefs) < many:
+        beliefs.add(random_belief(chance, states, chance.randint(3, 16)))
+    beliefs = sorted(beliefs, key=numbers)
+    shares = [chance.randint(1, 9) for _ in beliefs]
+    weights = [Fraction(share, sum(shares)) for share in shares]
+    prior = row(*[sum(w * numbers(b)[s] for w, b in zip(weights, beliefs)) for s in range(states)])
+    return prior, tuple((pair(w), b) for w, b in zip(weights, beliefs))
+
+
+def plain_setting(states, actions=1):
+    """A setting of so many states, for what does not hang on its numbers."""
+    return (((ONE,) * states,) * actions, ((NIL,) * states,) * actions)
+
+
+WRONG_BELIEFS = (
+    (ONE, ONE), (ONE,), (ONE, NIL, NIL), ((2, 1), LESS), [ONE, NIL], ((2, 2), NIL), ((True, 1), NIL), None, 0, "",
+    (1, 0), (THIRD, THIRD), nested(tuple, 60), nested(list, 60),
+)
+WRONG_SETTINGS = anything() + [
+    as_lists(COURT), (COURT[0], COURT[1][:1]), plain_setting(2, 6), plain_setting(5), COURT + COURT,
+]

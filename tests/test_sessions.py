@@ -2,6 +2,8 @@
 
 import unittest
 
+from persuasion import errors
+
 SESSIONS = r'''
 >>> from persuasion.settings import best_actions, choice, is_belief, is_setting, pay, sure, value, worth
 >>> nil, one, half = (0, 1), (1, 1), (1, 2)
@@ -18,6 +20,33 @@ SESSIONS = r'''
 >>> idle = (((one, nil), (nil, one), ((1, 3), (1, 3))), ((nil, nil), (one, one), (nil, one)))
 >>> [never_best(idle), cell_corners(idle, 2), corners(idle) == corners(court)]
 [(2,), (), True]
+
+>>> from persuasion.experiments import experiment_of, is_experiment, is_split, split_of, split_worth
+>>> best = (((3, 5), (half, half)), ((2, 5), (one, nil)))
+>>> [is_split(court, prior, best), is_split(court, prior, best[:1]), split_worth(court, prior, best), experiment_of(court, prior, best)]
+[True, False, (3, 5), (((3, 7), (4, 7)), ((1, 1), (0, 1)))]
+>>> [is_experiment(court, ((one, nil), (one,))), split_of(court, prior, ((half, half), (half, half))), split_of(court, prior, experiment_of(court, prior, best)) == best]
+[False, (((1, 1), ((7, 10), (3, 10))),), True]
+
+>>> from persuasion.cheap import barrier, cheap_value, is_transparent, secure
+>>> [is_transparent(court), is_transparent(idle), cheap_value(court, prior), secure(court, prior, one), cheap_value(court, (half, half)), barrier(court, (half, half), one)]
+[True, False, (0, 1), None, (1, 1), None]
+>>> [is_split(court, prior, secure(court, prior, nil)), cheap_value(idle, prior)]
+raises NotTransparent()
+
+>>> from persuasion.disclosure import is_disclosed, reasons, sceptical, sure_answers
+>>> rivals = (court[0], ((nil, one), (one, nil)))
+>>> [sure_answers(court), sceptical(court, (0, 1))[0], reasons(court, (0, 1)), is_disclosed(court)]
+[(0, 1), 0, None, True]
+>>> [sceptical(rivals, (0, 1)), reasons(rivals, (0, 1)), sceptical(rivals, (1,)), is_disclosed(rivals)]
+[None, (('gains', 1), ('gains', 0)), (1, ((0, 1), (1, 1))), False]
+
+>>> from persuasion.planes import above_at, are_multipliers, height, is_above, multipliers
+>>> steep = (nil, (2, 1))
+>>> [height(court, steep, prior), is_above(court, steep), is_above(court, (nil, one)), above_at(court, (nil, one)), above_at(court, steep)]
+[(3, 5), True, False, ((1, 2), (1, 2)), None]
+>>> [are_multipliers(court, steep, ((nil, nil), (one, nil))), are_multipliers(court, steep, ((nil, one), (one, nil))), are_multipliers(court, steep, multipliers(court, steep)), multipliers(court, (nil, one))]
+[True, False, True, None]
 '''
 
 
@@ -32,6 +61,11 @@ def steps():
     return out
 
 
+def written(error):
+    """An error as the sessions write it."""
+    return f"raises {type(error).__name__}({', '.join(repr(told) for told in vars(error).values())})"
+
+
 class SessionsTest(unittest.TestCase):
     def test_answers(self):
         names = {}
@@ -39,11 +73,15 @@ class SessionsTest(unittest.TestCase):
             with self.subTest(statement=statement):
                 if told is None:
                     exec(statement, names)
+                elif told.startswith("raises "):
+                    with self.assertRaises(errors.PersuasionError) as caught:
+                        eval(statement, names)
+                    self.assertEqual(written(caught.exception), told)
                 else:
                     self.assertEqual(repr(eval(statement, names)), told)
 
     def test_all_are_asked(self):
-        self.assertEqual(len([told for _, told in steps() if told is not None]), 4)
+        self.assertEqual(len([told for _, told in steps() if told is not None]), 12)
 
 
 if __name__ == "__main__":

@@ -6,22 +6,18 @@ from persuasion import settings
 from persuasion.errors import InvalidAction, InvalidBelief, InvalidSetting, InvalidState
 from persuasion.settings import best_actions, choice, is_belief, is_setting, pay, sure, value, worth
 from samples import (
-    COURT, HALF, IDLE, LESS, NIL, ONE, PRIOR, THIRD, WRONG_FRACTIONS, GivenCase, anything, as_lists, at, grid, nested,
-    number_of, numbers, pair, put, random_settings, row, table,
+    COURT, HALF, IDLE, NIL, ONE, PRIOR, THIRD, WRONG_BELIEFS, WRONG_FRACTIONS, WRONG_SETTINGS, GivenCase, anything,
+    as_lists, at, grid, nested, number_of, numbers, pair, plain_setting, put, random_settings, row, table,
 )
 
 GREAT = 10 ** 399 + 7
-
-
-def setting_of(actions, states):
-    return (((ONE,) * states,) * actions, ((NIL,) * states,) * actions)
 
 
 class IsSettingTest(unittest.TestCase):
     def test_all_sizes(self):
         for actions in range(0, 8):
             for states in range(0, 7):
-                told = is_setting(setting_of(actions, states))
+                told = is_setting(plain_setting(states, actions))
                 self.assertIs(told, 1 <= actions <= 5 and 2 <= states <= 4, (actions, states))
 
     def test_settings(self):
@@ -80,12 +76,12 @@ class IsSettingTest(unittest.TestCase):
 class IsBeliefTest(unittest.TestCase):
     def test_beliefs(self):
         for states in (2, 3, 4):
-            setting = setting_of(2, states)
+            setting = plain_setting(states, 2)
             for belief in grid(states, 5):
                 self.assertIs(is_belief(setting, belief), True)
                 self.assertIs(is_belief(setting=setting, value=belief), True)
                 for other in (2, 3, 4):
-                    self.assertIs(is_belief(setting_of(1, other), belief), other == states)
+                    self.assertIs(is_belief(plain_setting(other), belief), other == states)
         self.assertIs(is_belief(COURT, ((1, GREAT), (GREAT - 1, GREAT))), True)
 
     def test_other_sums(self):
@@ -96,7 +92,7 @@ class IsBeliefTest(unittest.TestCase):
     def test_below_nothing(self):
         self.assertIs(is_belief(COURT, row(-1, 2)), False)
         self.assertIs(is_belief(COURT, row(2, -1)), False)
-        self.assertIs(is_belief(setting_of(1, 3), row("-1/3", "2/3", "2/3")), False)
+        self.assertIs(is_belief(plain_setting(3), row("-1/3", "2/3", "2/3")), False)
 
     def test_wrong_fractions(self):
         for wrong in WRONG_FRACTIONS:
@@ -125,7 +121,7 @@ class NumbersTest(unittest.TestCase):
     def test_sure(self):
         for states in (2, 3, 4):
             for state in range(states):
-                told = sure(setting_of(1, states), state)
+                told = sure(plain_setting(states), state)
                 self.assertEqual(told, tuple(ONE if k == state else NIL for k in range(states)))
         self.assertEqual(sure(setting=COURT, state=0), (ONE, NIL))
 
@@ -241,17 +237,10 @@ class WhatStaysTest(unittest.TestCase):
             self.assertEqual(choice(IDLE, belief), choice(COURT, belief))
 
 
-WRONG_BELIEFS = (
-    (ONE, ONE), (ONE,), (ONE, NIL, NIL), ((2, 1), LESS), [ONE, NIL], ((2, 2), NIL), ((True, 1), NIL), None, 0, "",
-    (1, 0), (THIRD, THIRD), nested(tuple, 60), nested(list, 60),
-)
 WRONG_INDEXES = (
     -1, 2, 3, 10 ** 500, -10 ** 500, True, False, None, "0", "", b"0", (0,), [0], (0, 1), {0: 0}, 1j, object(),
     nested(tuple, 60), nested(list, 60),
 )
-WRONG_SETTINGS = anything() + [
-    as_lists(COURT), (COURT[0], COURT[1][:1]), setting_of(6, 2), setting_of(1, 5), COURT + COURT,
-]
 
 
 class ErrorsTest(GivenCase):
@@ -283,14 +272,14 @@ class ErrorsTest(GivenCase):
             for call in (pay, worth):
                 self.assert_given(InvalidAction, wrong, call, COURT, wrong, PRIOR)
                 self.assert_given(InvalidAction, wrong, call, setting=COURT, action=wrong, belief=PRIOR)
-        self.assert_given(InvalidAction, 1, pay, setting_of(1, 2), 1, PRIOR)
+        self.assert_given(InvalidAction, 1, pay, plain_setting(2), 1, PRIOR)
         self.assertEqual(pay(IDLE, 2, PRIOR), THIRD)
 
     def test_states(self):
         for wrong in WRONG_INDEXES:
             self.assert_given(InvalidState, wrong, sure, COURT, wrong)
             self.assert_given(InvalidState, wrong, sure, setting=COURT, state=wrong)
-        self.assertEqual(sure(setting_of(1, 3), 2), (NIL, NIL, ONE))
+        self.assertEqual(sure(plain_setting(3), 2), (NIL, NIL, ONE))
 
     def test_the_first_of_two(self):
         self.assert_given(InvalidSetting, None, is_belief, None, None)
