@@ -10,7 +10,7 @@ from itertools import combinations
 from persuasion.cells import cell_corners_in
 from persuasion.errors import InvalidLot
 from persuasion.programs import weights_to
-from persuasion.ratios import NIL, ONE, is_index, is_less, opposite, over, row_difference, row_sum, unit_rows
+from persuasion.ratios import NIL, ONE, is_index, is_less, opposite, row_difference, row_over, row_sum, unit_rows
 from persuasion.settings import action_count, check_setting, choice_at, state_count, sure_values
 
 
@@ -89,8 +89,7 @@ def beating_mix(setting, lot, action):
     if weights is None:
         return None
     shares = weights[:len(pays)]
-    total = row_sum(shares)
-    return tuple([over(share, total) for share in shares])
+    return row_over(shares, row_sum(shares))
 
 
 def is_disclosed(setting):

@@ -5,7 +5,8 @@ The functions whose names end in _for take arguments that were checked ahead.
 
 from persuasion.errors import InvalidExperiment, InvalidSplit, Unfit
 from persuasion.ratios import (
-    NIL, ONE, are_ascending, ascending, is_fraction, is_row_of_chances, over, plus, row_product, row_sum, times,
+    NIL, ONE, are_ascending, ascending, is_fraction, is_row_of_chances, over, plus, row_mix, row_over, row_product,
+    row_sum, times,
 )
 from persuasion.settings import check_belief, check_setting, state_count, value_at
 
@@ -26,7 +27,7 @@ def is_split_for(prior, value):
     if not all([is_part(part, len(prior)) for part in value]):
         return False
     # Beliefs have the sum 1, as the prior has: so the weights have it, too.
-    return are_ascending([belief for _, belief in value]) and mean_of(value, len(prior)) == prior
+    return are_ascending([belief for _, belief in value]) and mean_of(value) == prior
 
 
 def is_part(value, states):
@@ -37,10 +38,9 @@ def is_part(value, states):
     return is_fraction(weight) and weight[0] > 0 and is_row_of_chances(belief, states)
 
 
-def mean_of(split, states):
+def mean_of(split):
     """The sum of weights times beliefs."""
-    weights = [weight for weight, _ in split]
-    return tuple([row_product(weights, [belief[state] for _, belief in split]) for state in range(states)])
+    return row_mix([weight for weight, _ in split], [belief for _, belief in split])
 
 
 def check_split(prior, split):
@@ -80,7 +80,7 @@ def split_of(setting, prior, experiment):
         joint = [times(chance, row[k]) for chance, row in zip(prior, experiment)]
         weight = row_sum(joint)
         if weight != NIL:
-            belief = tuple([over(number, weight) for number in joint])
+            belief = row_over(joint, weight)
             weights[belief] = plus(weights.get(belief, NIL), weight)
     return split_by(weights)
 

@@ -84,9 +84,24 @@ def row_sum(row):
     return row_product(row, (ONE,) * len(row))
 
 
+def row_mix(shares, rows):
+    """The sum of the shares times the rows."""
+    return tuple([row_product(shares, column) for column in zip(*rows)])
+
+
+def row_over(row, number):
+    """A row over a fraction above 0, number by number."""
+    return tuple([over(part, number) for part in row])
+
+
 def row_difference(row, other):
     """A row less another one, number by number."""
     return tuple([minus(left, right) for left, right in zip(row, other)])
+
+
+def row_added(row, other):
+    """The sum, number by number, of two rows."""
+    return tuple([plus(left, right) for left, right in zip(row, other)])
 
 
 def opposite(row):
@@ -116,6 +131,15 @@ def greatest(row):
         if is_less(most, number):
             most = number
     return most
+
+
+def least(row):
+    """The least number of a row of one number or more."""
+    lowered = row[0]
+    for number in row[1:]:
+        if is_less(number, lowered):
+            lowered = number
+    return lowered
 
 
 def is_row_less(row, other):

@@ -65,7 +65,7 @@ class GivenCase(unittest.TestCase):
         self.assertIs(caught.exception.given, given)
 
     def assert_errors(self, call, good, told):
-        """Of good arguments by name, each one wrong in all told ways, by position and by name, alone and with others."""
+        """Good arguments by name, each one wrong in all told ways, by position and by name, alone and with others."""
         words = list(good)
         for k, word in enumerate(words):
             kind, wrongs = told.get(word, (None, ()))
@@ -279,3 +279,49 @@ WRONG_BELIEFS = (
 WRONG_SETTINGS = anything() + [
     as_lists(COURT), (COURT[0], COURT[1][:1]), plain_setting(2, 6), plain_setting(5), COURT + COURT,
 ]
+
+
+def corners_of(setting):
+    """The corners of all cells, ascending, worked out from the words of point 8."""
+    every = [belief for k in range(len(setting[0])) for belief in corners_by_equations(setting, k)]
+    return sorted(set(every), key=numbers)
+
+
+@lru_cache(maxsize=None)
+def planes_by_search(setting):
+    """The roof's planes, by a search of all lots of as many corners as there are states, from the words of point 14."""
+    peaks = [numbers(belief) + [value_at(setting, belief)] for belief in corners_of(setting)]
+    found = set()
+    for chosen in combinations(peaks, len(setting[0][0])):
+        plane = only_answer(chosen)
+        if plane is not None and all(sum(x * y for x, y in zip(plane, peak)) >= peak[-1] for peak in peaks):
+            found.add(tuple(plane))
+    return tuple(row(*plane) for plane in sorted(found))
+
+
+def roof_by_search(setting, belief):
+    """The least height of the roof's planes at a belief."""
+    return min(at(plane, belief) for plane in planes_by_search(setting))
+
+
+def near_settings(seed, many):
+    """Settings in which each action is best just where the belief is near to its own place, so that cells are full."""
+    chance = random.Random(seed)
+    out = []
+    for k in range(many):
+        states, actions = 2 + k % 3, 1 + (k // 3) % 5
+        places = [numbers(random_belief(chance, states, 6)) for _ in range(actions)]
+        pays = table(*[[2 * x - sum(y * y for y in place) for x in place] for place in places])
+        out.append((pays, random_table(chance, actions, states)))
+    return out
+
+
+def with_worths(setting, kind):
+    """The setting with worths that are the pays ("friend"), or these with all signs changed ("foe")."""
+    sign = 1 if kind == "friend" else -1
+    return (setting[0], tuple(row(*[sign * x for x in numbers(told)]) for told in setting[0]))
+
+
+def swapped(setting, order):
+    """The setting with its actions in another order."""
+    return tuple(tuple(side[k] for k in order) for side in setting)

@@ -7,18 +7,13 @@ from persuasion.errors import InvalidBelief, InvalidPlane, InvalidSetting
 from persuasion.planes import above_at, are_multipliers, height, is_above, multipliers
 from samples import (
     COURT, HALF, LESS, NIL, ONE, PRIOR, WRONG_BELIEFS, WRONG_FRACTIONS, WRONG_SETTINGS, GivenCase, anything, as_lists,
-    at, corners_by_equations, grid, is_row_of, nested, number_of, numbers, pair, plain_setting, put, random_settings,
+    at, corners_of, grid, is_row_of, nested, number_of, numbers, pair, plain_setting, put, random_settings,
     row, table, value_at,
 )
 
 GREAT = 10 ** 399 + 7
 STEEP = (NIL, (2, 1))
 KNOWN = ((NIL, NIL), (ONE, NIL))
-
-
-def corners_of(setting):
-    every = [belief for k in range(len(setting[0])) for belief in corners_by_equations(setting, k)]
-    return sorted(set(every), key=numbers)
 
 
 def is_above_by_corners(setting, plane):

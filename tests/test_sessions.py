@@ -47,6 +47,32 @@ raises NotTransparent()
 [(3, 5), True, False, ((1, 2), (1, 2)), None]
 >>> [are_multipliers(court, steep, ((nil, nil), (one, nil))), are_multipliers(court, steep, ((nil, one), (one, nil))), are_multipliers(court, steep, multipliers(court, steep)), multipliers(court, (nil, one))]
 [True, False, True, None]
+
+>>> from persuasion.roofs import best_split, fewest, lead, least_plane, pays_within, roof, roof_at, short_split
+>>> friend, foe = (court[0], court[0]), (court[0], (((-1, 1), nil), (nil, (-1, 1))))
+>>> [roof(court), roof_at(court, prior), best_split(court, prior), least_plane(court, prior) == steep]
+[(((0, 1), (2, 1)), ((1, 1), (1, 1))), (3, 5), (((3, 5), ((1, 2), (1, 2))), ((2, 5), ((1, 1), (0, 1)))), True]
+>>> [fewest(court, prior), fewest(court, (nil, one)), fewest(foe, prior), short_split(foe, prior), pays_within(court, prior), pays_within(friend, prior)]
+[2, 1, 1, (((1, 1), ((7, 10), (3, 10))),), ((7, 10), (7, 10)), ((1, 1), (1, 1))]
+>>> [lead(friend, court), lead(court, friend), roof(friend), roof(foe)]
+[((1, 1), ((1, 1), (0, 1))), ((0, 1), ((0, 1), (1, 1))), (((1, 1), (1, 1)),), (((-1, 1), (0, 1)), ((0, 1), (-1, 1)))]
+
+>>> from persuasion.telling import against_all, all_best_at, all_told, gain, helped, helps, is_all_best, never_helps
+>>> [gain(court, prior), helps(court, (half, half)), never_helps(court), helped(court), never_helps(foe), helped(foe), never_helps(friend)]
+[(3, 5), False, False, ((3, 4), (1, 4)), True, None, False]
+>>> [all_told(court), is_all_best(court), against_all(court), is_all_best(friend), all_best_at(court, prior), all_best_at(court, (nil, one))]
+[((0, 1), (1, 1)), False, ((1, 2), (1, 2)), True, False, True]
+>>> never_helps((((nil, nil), (nil, nil)), ((one, one), (nil, nil))))
+True
+
+>>> from persuasion.games import apart, breach, is_game, is_obedient, is_publicly_obedient, worth_of_outcome
+>>> nil, one, two, half, third, more, less = (0, 1), (1, 1), (2, 1), (1, 2), (1, 3), (2, 3), (-1, 1)
+>>> out, eager, wary = (nil, nil), (one, less), (one, (-2, 1))
+>>> calls = (((out, out), (eager, eager)), ((out, wary), (out, wary)), ((out, (one, one)), ((one, one), (two, two))))
+>>> [is_game(calls), is_obedient(calls, (third, more), (((nil, third), out), (out, (third, third)))), breach(calls, (third, more), (((nil, third), out), (out, (third, third))))]
+[True, False, (1, 1, 0)]
+>>> [apart(calls) is None, is_publicly_obedient(calls, (third, more), (((nil, half), out), (out, (third, (1, 6))))), worth_of_outcome(calls, (third, more), (((nil, half), out), (out, (third, (1, 6)))))]
+[False, True, (1, 1)]
 '''
 
 
@@ -81,7 +107,7 @@ class SessionsTest(unittest.TestCase):
                     self.assertEqual(repr(eval(statement, names)), told)
 
     def test_all_are_asked(self):
-        self.assertEqual(len([told for _, told in steps() if told is not None]), 12)
+        self.assertEqual(len([told for _, told in steps() if told is not None]), 20)
 
 
 if __name__ == "__main__":

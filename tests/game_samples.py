@@ -1,0 +1,177 @@
+"""Games, outcomes and an independent reckoning of points 19 to 22, for the tests."""
+
+from fractions import Fraction
+from itertools import product
+
+from persuasion.programs import best_weights
+from samples import NIL, ONE, number_of, numbers, row
+
+LESS, TWO, HALF, THIRD, MORE = (-1, 1), (2, 1), (1, 2), (1, 3), (2, 3)
+OUT, EAGER, WARY = (NIL, NIL), (ONE, LESS), (ONE, (-2, 1))
+CALLS = (((OUT, OUT), (EAGER, EAGER)), ((OUT, WARY), (OUT, WARY)), ((OUT, (ONE, ONE)), ((ONE, ONE), (TWO, TWO))))
+CALLS_PRIOR = (THIRD, MORE)
+BEYOND = (((NIL, THIRD), OUT), (OUT, (THIRD, THIRD)))
+KEPT = (((NIL, HALF), OUT), (OUT, (THIRD, (1, 6))))
+ALL_SIZES = list(product((1, 2, 3), repeat=3))
+
+
+def table_by(sizes, tell):
+    """A table of these sizes, with what is told for each a, b, s."""
+    first, second, states = sizes
+    return tuple(tuple(row(*[tell(a, b, s) for s in range(states)]) for b in range(second)) for a in range(first))
+
+
+def sizes_of(table):
+    return (len(table), len(table[0]), len(table[0][0]))
+
+
+def places(sizes):
+    return list(product(*[range(many) for many in sizes]))
+
+
+def of(table, place):
+    a, b, s = place
+    return number_of(table[a][b][s])
+
+
+def random_table_of(chance, sizes, most=3, below=2):
+    return table_by(sizes, lambda a, b, s: Fraction(chance.randint(-most, most), chance.randint(1, below)))
+
+
+def random_game(chance, sizes, most=3, below=2):
+    return tuple(random_table_of(chance, sizes, most, below) for _ in range(3))
+
+
+def random_chances(chance, many):
+    shares = [chance.choice([0, 1, 1, 2, 3]) for _ in range(many)]
+    shares[chance.randrange(many)] += 1
+    return row(*[Fraction(share, sum(shares)) for share in shares])
+
+
+def random_outcome(chance, sizes, prior):
+    """An outcome of the prior, in each state by any chances."""
+    first, second, states = sizes
+    told = [random_chances(chance, first * second) for _ in range(states)]
+    return table_by(sizes, lambda a, b, s: number_of(prior[s]) * number_of(told[s][a * second + b]))
+
+
+def disobedience(game, outcome):
+    """What is gained by each triple (RECEIVER, ADVISED, OTHER), worked out from the words of point 20."""
+    sizes, out = sizes_of(outcome), {}
+    for receiver in (0, 1):
+        for advised, other in product(range(sizes[receiver]), repeat=2):
+            total = Fraction(0)
+            for place in places(sizes):
+                if place[receiver] == advised:
+                    there = place[:receiver] + (other,) + place[receiver + 1:]
+                    total += of(outcome, place) * (of(game[receiver], place) - of(game[receiver], there))
+            out[receiver, advised, other] = total
+    return out
+
+
+def breach_by_sums(game, outcome):
+    wrong = [triple for triple, number in disobedience(game, outcome).items() if number < 0]
+    return min(wrong) if wrong else None
+
+
+def is_public_by_sums(game, outcome):
+    """Whether an outcome is publicly obedient, worked out from the words of point 22."""
+    first, second, states = sizes_of(outcome)
+    for a, b in product(range(first), range(second)):
+        others = [(0, other, b) for other in range(first)] + [(1, a, other) for other in range(second)]
+        for receiver, c, d in others:
+            pays = game[receiver]
+            if sum(of(outcome, (a, b, s)) * (of(pays, (a, b, s)) - of(pays, (c, d, s))) for s in range(states)) < 0:
+                return False
+    return True
+
+
+def obedience_row(game, sizes, place, public):
+    """The gains of a number of an outcome, for each lot that has to be from 0 on."""
+    a, b, s = place
+    out = []
+    for receiver in (0, 1):
+        for advised, other, seen in product(range(sizes[receiver]), range(sizes[receiver]), range(sizes[1 - receiver])):
+            if not public and seen > 0:
+                continue
+            there = place[:receiver] + (other,) + place[receiver + 1:]
+            told = advised == place[receiver] and (not public or seen == place[1 - receiver])
+            out.append(of(game[receiver], place) - of(game[receiver], there) if told else 0)
+    return out
+
+
+def obedient_outcome(game, prior, aims, public=False):
+    """An obedient outcome that has as much as can be of a table of aims, often just so; None."""
+    sizes = sizes_of(game[0])
+    states = sizes[2]
+    points = []
+    for place in places(sizes):
+        points.append(row(*[int(s == place[2]) for s in range(states)], *obedience_row(game, sizes, place, public)))
+    many = len(points[0]) - states
+    spare = [row(*[0] * states, *[-int(j == k) for j in range(many)]) for k in range(many)]
+    worths = tuple(aims[a][b][s] for a, b, s in places(sizes)) + (NIL,) * many
+    told = best_weights(points + spare, prior + (NIL,) * many, worths)
+    if told is None:
+        return None
+    by = dict(zip(places(sizes), told[0]))
+    return table_by(sizes, lambda a, b, s: number_of(by[a, b, s]))
+
+
+def moved_a_bit(chance, outcome, step=Fraction(1, 10 ** 9)):
+    """The outcome with a bit of one number moved to another one of its state."""
+    full = [place for place in places(sizes_of(outcome)) if of(outcome, place) > step]
+    a, b, s = chance.choice(full)
+    c, d = chance.randrange(len(outcome)), chance.randrange(len(outcome[0]))
+    moves = {(a, b, s): -step}
+    moves[c, d, s] = moves.get((c, d, s), 0) + step
+    return table_by(sizes_of(outcome), lambda *place: of(outcome, place) + moves.get(place, 0))
+
+
+def made_by(prior, information, answers, sizes):
+    """The outcome that answers make, worked out from the words of point 20."""
+    first, second = answers
+
+    def told(a, b, s):
+        return number_of(prior[s]) * sum(
+            number_of(information[s][i][j]) * number_of(first[i][a]) * number_of(second[j][b])
+            for i in range(len(first)) for j in range(len(second))
+        )
+    return table_by(sizes, told)
+
+
+def is_equilibrium_by_sums(game, prior, information, answers):
+    """Whether answers are an equilibrium, worked out from the words of point 20."""
+    sizes, signals = sizes_of(game[0]), [len(mixes) for mixes in answers]
+    for receiver in (0, 1):
+        for signal, action in product(range(signals[receiver]), range(sizes[receiver])):
+            own, total = numbers(answers[receiver][signal]), Fraction(0)
+            for s, seen, other in product(range(sizes[2]), range(signals[1 - receiver]), range(sizes[1 - receiver])):
+                i, j = (signal, seen) if receiver == 0 else (seen, signal)
+                share = number_of(prior[s]) * number_of(information[s][i][j])
+                share *= number_of(answers[1 - receiver][seen][other])
+
+                def paid(act):
+                    return of(game[receiver], (act, other, s) if receiver == 0 else (other, act, s))
+                total += share * (sum(own[act] * paid(act) for act in range(sizes[receiver])) - paid(action))
+            if total < 0:
+                return False
+    return True
+
+
+def random_information(chance, states, many, wide):
+    """Information with so many signals for both receivers."""
+    out = []
+    for _ in range(states):
+        told = random_chances(chance, many * wide)
+        out.append(tuple(told[k * wide:(k + 1) * wide] for k in range(many)))
+    return tuple(out)
+
+
+def random_answers(chance, sizes, signals):
+    return tuple(
+        tuple(random_chances(chance, sizes[k]) for _ in range(signals[k])) for k in (0, 1)
+    )
+
+
+def pure(action, actions):
+    return row(*[int(k == action) for k in range(actions)])
