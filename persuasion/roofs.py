@@ -11,8 +11,8 @@ from persuasion.experiments import split_at, split_by
 from persuasion.programs import best_weights, weights_to
 from persuasion.rays import narrowed
 from persuasion.ratios import (
-    NIL, ONE, ascending, greatest, least, lowest, minus, opposite, plus, row_mix, row_over, row_product, row_sum,
-    unit_rows, whole_row,
+    NIL, ONE, ascending, greatest, least, lowest, minus, opposite, row_mix, row_over, row_product, row_sum, unit_rows,
+    whole_row,
 )
 from persuasion.settings import (
     action_count, check_belief, check_setting, is_setting, state_count, sure_values, value_at,
@@ -129,7 +129,8 @@ def short_split(setting, prior):
 def short_split_for(setting, prior):
     """Any best split of the prior into as few beliefs as can be."""
     faces = faces_on(setting, least_plane_for(setting, prior))
-    # Beliefs on one face may be put together: so one for each face is enough, and with all faces one is found.
+    # Beliefs on one face may be put together, so one for each face is enough; with all faces a split is found.
+    # Where fewer faces were not enough, each one has a weight, and their beliefs are unlike.
     for many in range(1, len(faces) + 1):
         for chosen in combinations(faces, many):
             split = split_over(chosen, prior)
@@ -149,7 +150,7 @@ def faces_on(setting, plane):
 
 
 def split_over(faces, prior):
-    """A split of the prior into one belief for each of the faces, some perhaps left out; None."""
+    """A split of the prior into a belief for each of the faces, if all of them are needed; None."""
     weights = weights_to([corner for face in faces for corner in face], prior)
     if weights is None:
         return None
@@ -158,9 +159,7 @@ def split_over(faces, prior):
         shares = weights[at:at + len(face)]
         at += len(face)
         total = row_sum(shares)
-        if total != NIL:
-            belief = row_over(row_mix(shares, face), total)
-            told[belief] = plus(told.get(belief, NIL), total)
+        told[row_over(row_mix(shares, face), total)] = total
     return split_by(told)
 
 

@@ -391,6 +391,8 @@ class ErrorsTest(GivenCase):
         INFORMATION[:1], INFORMATION + INFORMATION[:1], list(INFORMATION), as_lists(INFORMATION), INFORMATION[0],
         put(INFORMATION, (0,), ((ONE, NIL),)), put(INFORMATION, (1, 0), (HALF,)), put(INFORMATION, (0, 1, 1), ONE),
         put(INFORMATION, (1, 0, 0), (1, 4)), ((row(1, 0, 0, 0, 0),),) * 2, ((row(1),) * 5,) * 2, ((), ()), (((),),) * 2,
+        put(INFORMATION, (1,), ((HALF, NIL, NIL), (HALF,))), put(INFORMATION, (1,), ((HALF, NIL, NIL, HALF), ())),
+        put(INFORMATION, (1,), list(INFORMATION[1])), put(INFORMATION, (1, 1), [NIL, HALF]),
         (((ONE, LESS), (NIL, ONE)),) * 2, put(INFORMATION, (0, 0, 0), (2, 2)), put(INFORMATION, (0, 0, 1), (0, 2)),
     ]
     wrong_answers = anything() + [
