@@ -10,6 +10,11 @@ NIL = (0, 1)
 ONE = (1, 1)
 
 
+def is_tuple_of(value, many):
+    """Whether a value, whatever it is, is a tuple of so many things."""
+    return isinstance(value, tuple) and len(value) == many
+
+
 def is_whole(value):
     """Whether a value, whatever it is, is a whole number."""
     return isinstance(value, int) and not isinstance(value, bool)
@@ -87,6 +92,11 @@ def row_sum(row):
 def row_mix(shares, rows):
     """The sum of the shares times the rows."""
     return tuple([row_product(shares, column) for column in zip(*rows)])
+
+
+def row_times(row, number):
+    """A row times a fraction, number by number."""
+    return tuple([times(part, number) for part in row])
 
 
 def row_over(row, number):

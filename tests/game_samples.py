@@ -1,10 +1,11 @@
-"""Games, outcomes and an independent reckoning of points 19 to 22, for the tests."""
+"""Games, outcomes and an independent reckoning of points 19 to 23, for the tests."""
 
+import random
 from fractions import Fraction
 from itertools import product
 
 from persuasion.programs import best_weights
-from samples import NIL, ONE, number_of, numbers, row
+from samples import NIL, ONE, is_row_of, number_of, numbers, row
 
 LESS, TWO, HALF, THIRD, MORE = (-1, 1), (2, 1), (1, 2), (1, 3), (2, 3)
 OUT, EAGER, WARY = (NIL, NIL), (ONE, LESS), (ONE, (-2, 1))
@@ -117,6 +118,73 @@ def obedient_outcome(game, prior, aims, public=False):
     return table_by(sizes, lambda a, b, s: number_of(by[a, b, s]))
 
 
+def pull_by_sums(game, multipliers, place, public):
+    """The pull of a, b, s, worked out from the words of points 21 and 22."""
+    total = Fraction(0)
+    for receiver in (0, 1):
+        told = multipliers[receiver]
+        own = told[place[0]][place[1]] if public else told[place[receiver]]
+        for other, number in enumerate(own):
+            there = place[:receiver] + (other,) + place[receiver + 1:]
+            total += number_of(number) * (of(game[receiver], place) - of(game[receiver], there))
+    return total
+
+
+def has_form_of_multipliers(game, multipliers, public):
+    """Whether multipliers have as many numbers as told, in lowest terms, from 0 on."""
+    sizes = sizes_of(game[0])
+    if type(multipliers) is not tuple or len(multipliers) != 2:
+        return False
+    for receiver in (0, 1):
+        told, rows = multipliers[receiver], multipliers[receiver]
+        if public:
+            if type(told) is not tuple or [len(part) for part in told] != [sizes[1]] * sizes[0]:
+                return False
+            rows = [own for part in told for own in part]
+        elif type(told) is not tuple or len(told) != sizes[receiver]:
+            return False
+        if not all(is_row_of(own, sizes[receiver]) and min(numbers(own)) >= 0 for own in rows):
+            return False
+    return True
+
+
+def are_prices_by_sums(game, told, prices, multipliers, public=False):
+    """Whether prices are at least what a function tells of each a, b, s and the pull, and the multipliers are such."""
+    sizes = sizes_of(game[0])
+    if not is_row_of(prices, sizes[2]) or not has_form_of_multipliers(game, multipliers, public):
+        return False
+    return all(
+        number_of(prices[place[2]]) >= told(place) + pull_by_sums(game, multipliers, place, public)
+        for place in places(sizes)
+    )
+
+
+def are_prices_above_by_sums(game, prices, multipliers, public=False):
+    return are_prices_by_sums(game, lambda place: of(game[2], place), prices, multipliers, public)
+
+
+def weighed(wishes, weights, place):
+    return sum(number_of(weight) * of(told, place) for weight, (told, _) in zip(weights, wishes))
+
+
+def sum_of(outcome, told):
+    """The sum of an outcome's numbers times a table."""
+    return sum(of(outcome, place) * of(told, place) for place in places(sizes_of(outcome)))
+
+
+def is_outcome_by_sums(game, prior, outcome):
+    """Whether a value is an outcome of the prior, in whole numbers in lowest terms."""
+    sizes = sizes_of(game[0])
+    if type(outcome) is not tuple or [type(part) for part in outcome] != [tuple] * sizes[0]:
+        return False
+    if [len(part) for part in outcome] != [sizes[1]] * sizes[0]:
+        return False
+    if not all(is_row_of(told, sizes[2]) and min(numbers(told)) >= 0 for part in outcome for told in part):
+        return False
+    totals = [sum(of(outcome, place) for place in places(sizes) if place[2] == s) for s in range(sizes[2])]
+    return totals == numbers(prior)
+
+
 def moved_a_bit(chance, outcome, step=Fraction(1, 10 ** 9)):
     """The outcome with a bit of one number moved to another one of its state."""
     full = [place for place in places(sizes_of(outcome)) if of(outcome, place) > step]
@@ -175,3 +243,15 @@ def random_answers(chance, sizes, signals):
 
 def pure(action, actions):
     return row(*[int(k == action) for k in range(actions)])
+
+
+def games_for(seed, rounds=1, most=3, below=2):
+    """A game of each size, with a prior each; every third prior has a state of chance 0, if there are several."""
+    chance = random.Random(seed)
+    out = []
+    for k, sizes in enumerate(ALL_SIZES * rounds):
+        prior = random_chances(chance, sizes[2])
+        if k % 3 == 0 and sizes[2] > 1:
+            prior = random_chances(chance, sizes[2] - 1) + (NIL,)
+        out.append((random_game(chance, sizes, most, below), prior))
+    return out

@@ -64,6 +64,14 @@ class GivenCase(unittest.TestCase):
         self.assertIs(caught.exception.__class__, kind)
         self.assertIs(caught.exception.given, given)
 
+    def assert_told(self, kind, word, told, call, *args, **named):
+        """Whether an error of just this kind is raised, whose attribute is what is told, of the same class."""
+        with self.assertRaises(kind) as caught:
+            call(*args, **named)
+        self.assertIs(caught.exception.__class__, kind)
+        attribute = getattr(caught.exception, word)
+        self.assertEqual((type(attribute), attribute), (type(told), told))
+
     def assert_errors(self, call, good, told):
         """Good arguments by name, each one wrong in all told ways, by position and by name, alone and with others."""
         words = list(good)

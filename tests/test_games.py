@@ -5,7 +5,7 @@ from itertools import product
 
 from game_samples import (
     ALL_SIZES, BEYOND, CALLS, CALLS_PRIOR, EAGER, KEPT, MORE, OUT, WARY, breach_by_sums, disobedience,
-    is_equilibrium_by_sums, is_public_by_sums, made_by, moved_a_bit, obedient_outcome, of, places, pure,
+    games_for, is_equilibrium_by_sums, is_public_by_sums, made_by, moved_a_bit, obedient_outcome, of, places, pure,
     random_answers, random_chances, random_game, random_information, random_outcome, random_table_of, sizes_of,
     table_by,
 )
@@ -26,18 +26,6 @@ from samples import (
 GREAT = 10 ** 65 + 7
 INFORMATION = (((ONE, NIL), (NIL, NIL)), ((HALF, NIL), (NIL, HALF)))
 ANSWERS = (((ONE, NIL), (NIL, ONE)), ((ONE, NIL), (NIL, ONE)))
-
-
-def games_for(seed, rounds=1, most=3, below=2):
-    """A game of each size, with a prior each; every third prior has a state of chance 0, if there are several."""
-    chance = random.Random(seed)
-    out = []
-    for k, sizes in enumerate(ALL_SIZES * rounds):
-        prior = random_chances(chance, sizes[2])
-        if k % 3 == 0 and sizes[2] > 1:
-            prior = random_chances(chance, sizes[2] - 1) + (NIL,)
-        out.append((random_game(chance, sizes, most, below), prior))
-    return out
 
 
 class IsGameTest(unittest.TestCase):

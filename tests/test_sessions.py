@@ -73,6 +73,51 @@ True
 [True, False, (1, 1, 0)]
 >>> [apart(calls) is None, is_publicly_obedient(calls, (third, more), (((nil, half), out), (out, (third, (1, 6))))), worth_of_outcome(calls, (third, more), (((nil, half), out), (out, (third, (1, 6)))))]
 [False, True, (1, 1)]
+
+>>> from persuasion.design import are_prices, best_private, best_public, bring, public_bar
+>>> [best_private(calls, (third, more))[0], best_public(calls, (third, more))[0], public_bar(calls, (third, more))]
+[(7, 6), (1, 1), None]
+>>> six, deuce, seven, none = ((6, 1),), (two,), ((7, 1),), (nil,)
+>>> dare = (((six, deuce), (seven, none)), ((six, seven), (deuce, none)), ((((12, 1),), ((9, 1),)), (((9, 1),), none)))
+>>> [best_private(dare, (one,))[:2], best_public(dare, (one,))[0]]
+[((21, 2), ((((1, 2),), ((1, 4),)), (((1, 4),), ((0, 1),)))), (9, 1)]
+>>> win, lose = (one,), (less,)
+>>> pennies = (((win, lose), (lose, win)), ((lose, win), (win, lose)), ((none, none), (none, none)))
+>>> [best_public(pennies, (one,)), best_private(pennies, (one,))[1], public_bar(pennies, (one,)) is None]
+[None, ((((1, 4),), ((1, 4),)), (((1, 4),), ((1, 4),))), False]
+>>> both = ((win, none), (none, none))
+>>> [bring(dare, (one,), ((both, (3, 5)),))[0], bring(dare, (one,), ((both, half),))[0], are_prices(dare, ((12, 1),), (((nil, nil), (nil, nil)),) * 2)]
+['barred', 'brought', True]
+
+>>> from persuasion.sheets import is_name, is_sheet, read_sheet, sheet_text
+>>> case = (("innocent", "guilty"), ("acquit", "convict"), court, (("start", prior),))
+>>> [is_sheet(case), is_sheet(case[:3]), is_name("prior"), is_name("start"), sheet_text(case)]
+[True, False, False, True, 'states innocent guilty\naction acquit 1 0 0 0\naction convict 0 1 1 1\nprior start 7/10 3/10\n']
+>>> [read_sheet(sheet_text(case)) == case, read_sheet("states a b\naction a 1 1 0 -1/2\n")]
+[True, (('a', 'b'), ('a',), ((((1, 1), (1, 1)),), (((0, 1), (-1, 2)),)), ())]
+>>> read_sheet("states a b\naction x 1 1 0 0\nprior p 1/2 1/3\n")
+raises InvalidText(2)
+>>> read_sheet("states a b\n")
+raises InvalidText(1)
+
+>>> from persuasion.deeds import any_pair, behind, fits, is_pair, leaves, led_pair, led_prior
+>>> pair = (best, (nil, (2, 1)))
+>>> [is_pair(court, prior, pair), is_pair(court, prior, (best, (one, one))), is_pair(court, prior, any_pair(court, prior)), fits(court, ("strike", 1)), fits(court, ("scale", nil, (nil, nil)))]
+[True, False, True, True, False]
+>>> [behind(court, ("lift", (2, 1), (one, nil)))[1], led_pair(court, ("lift", (2, 1), (one, nil)), prior, pair)[1], led_prior(court, ("states", (1, 0)), prior), leaves(court, ("states", (1, 0)), prior, pair)]
+[(((1, 1), (0, 1)), ((3, 1), (2, 1))), ((1, 1), (4, 1)), ((3, 10), (7, 10)), True]
+>>> [leaves(court, ("worth", 0, 1, (-1, 1)), prior, pair), leaves(court, ("worth", 0, 0, (-1, 1)), prior, pair), leaves(court, ("worth", 1, 0, (2, 1)), prior, pair), leaves(court, ("worth", 0, 1, (2, 1)), prior, pair)]
+[True, False, False, True]
+
+>>> from persuasion.books import again, changed, fresh_book, pairs_in, sheet_in, undone, work_of
+>>> book = fresh_book(case)
+>>> harsh = changed(book, ("worth", 1, 0, (2, 1)))
+>>> [pairs_in(book) == (pair,), work_of(book, ("worth", 1, 0, (2, 1))), work_of(book, ("states", (1, 0))), sheet_in(changed(book, ("states", (1, 0))))[0], undone(harsh)[0] == book[0], again(undone(harsh)) == harsh]
+[True, ('start',), (), ('guilty', 'innocent'), True, True]
+>>> sheet_in(changed(book, ("action", (half, half), (nil, (-1, 1)), "defer")))[1]
+('acquit', 'convict', 'defer')
+>>> undone(book)
+raises NothingToUndo()
 '''
 
 
@@ -107,7 +152,7 @@ class SessionsTest(unittest.TestCase):
                     self.assertEqual(repr(eval(statement, names)), told)
 
     def test_all_are_asked(self):
-        self.assertEqual(len([told for _, told in steps() if told is not None]), 20)
+        self.assertEqual(len([told for _, told in steps() if told is not None]), 34)
 
 
 if __name__ == "__main__":
