@@ -21,6 +21,11 @@ def helps(setting, prior):
     """Whether the roof at the prior is above the value there."""
     check_setting(setting)
     check_belief(setting, prior)
+    return helps_for(setting, prior)
+
+
+def helps_for(setting, prior):
+    """Whether the roof at the prior is above the value there."""
     return is_less(value_at(setting, prior), roof_at_for(setting, prior))
 
 
@@ -61,7 +66,7 @@ def all_told(setting):
 def is_all_best(setting):
     """Whether telling all is best at all priors."""
     check_setting(setting)
-    return above_at_for(setting, sure_values(setting)) is None
+    return against_all_for(setting) is None
 
 
 def all_best_at(setting, prior):
@@ -74,4 +79,9 @@ def all_best_at(setting, prior):
 def against_all(setting):
     """The first corner at which the value is above the worth of telling all; None."""
     check_setting(setting)
+    return against_all_for(setting)
+
+
+def against_all_for(setting):
+    """The first corner at which the value is above the worth of telling all; None."""
     return above_at_for(setting, sure_values(setting))

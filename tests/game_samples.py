@@ -13,6 +13,11 @@ CALLS = (((OUT, OUT), (EAGER, EAGER)), ((OUT, WARY), (OUT, WARY)), ((OUT, (ONE, 
 CALLS_PRIOR = (THIRD, MORE)
 BEYOND = (((NIL, THIRD), OUT), (OUT, (THIRD, THIRD)))
 KEPT = (((NIL, HALF), OUT), (OUT, (THIRD, (1, 6))))
+SIX, DEUCE, SEVEN, NONE = ((6, 1),), ((2, 1),), ((7, 1),), (NIL,)
+DARE = (((SIX, DEUCE), (SEVEN, NONE)), ((SIX, SEVEN), (DEUCE, NONE)), ((((12, 1),), ((9, 1),)), (((9, 1),), NONE)))
+WIN, LOSE = (ONE,), (LESS,)
+PENNIES = (((WIN, LOSE), (LOSE, WIN)), ((LOSE, WIN), (WIN, LOSE)), ((NONE, NONE), (NONE, NONE)))
+BOTH = ((WIN, NONE), (NONE, NONE))
 ALL_SIZES = list(product((1, 2, 3), repeat=3))
 
 
@@ -138,7 +143,9 @@ def has_form_of_multipliers(game, multipliers, public):
     for receiver in (0, 1):
         told, rows = multipliers[receiver], multipliers[receiver]
         if public:
-            if type(told) is not tuple or [len(part) for part in told] != [sizes[1]] * sizes[0]:
+            if type(told) is not tuple or [type(part) for part in told] != [tuple] * sizes[0]:
+                return False
+            if [len(part) for part in told] != [sizes[1]] * sizes[0]:
                 return False
             rows = [own for part in told for own in part]
         elif type(told) is not tuple or len(told) != sizes[receiver]:
@@ -254,4 +261,24 @@ def games_for(seed, rounds=1, most=3, below=2):
         if k % 3 == 0 and sizes[2] > 1:
             prior = random_chances(chance, sizes[2] - 1) + (NIL,)
         out.append((random_game(chance, sizes, most, below), prior))
+    return out
+
+
+def hunts(chance, sizes):
+    """A game in which the second receiver gains just what the first one loses."""
+    pays = random_table_of(chance, sizes, 4, 3)
+    return (pays, table_by(sizes, lambda *place: -of(pays, place)), random_table_of(chance, sizes))
+
+
+def odd_games(seed):
+    """Games with actions that pay alike, with nothing to gain, of one receiver's hunt, with a prior each."""
+    chance, out = random.Random(seed), []
+    for sizes in ALL_SIZES:
+        prior = random_chances(chance, sizes[2])
+        still = table_by(sizes, lambda a, b, s: 0)
+        alike = random_game(chance, sizes)
+        alike = tuple(told[:-1] + told[:1] for told in alike) if sizes[0] > 1 else alike
+        for game in (hunts(chance, sizes), alike, (still, still, alike[2]), (alike[0], alike[1], still)):
+            out.append((game, prior))
+        out.append((random_game(chance, sizes, 1, 1), prior))
     return out

@@ -225,7 +225,8 @@ def is_best(setting, action, belief):
 def is_row_of(value, many):
     """Whether a value is a tuple of so many pairs in lowest terms, told in whole numbers."""
     return type(value) is tuple and len(value) == many and all(
-        type(x) is tuple and [type(part) for part in x] == [int, int] and pair(number_of(x)) == x for x in value
+        type(x) is tuple and [type(part) for part in x] == [int, int] and x[1] > 0 and pair(number_of(x)) == x
+        for x in value
     )
 
 

@@ -4,9 +4,9 @@ from fractions import Fraction
 from itertools import product
 
 from game_samples import (
-    ALL_SIZES, CALLS, CALLS_PRIOR, HALF, LESS, OUT, TWO, are_prices_above_by_sums, are_prices_by_sums,
-    disobedience, games_for, is_outcome_by_sums, is_public_by_sums, of, places, pull_by_sums, random_chances,
-    random_game, random_table_of, sizes_of, sum_of, table_by, weighed,
+    ALL_SIZES, BOTH, CALLS, CALLS_PRIOR, DARE, HALF, LOSE, NONE, OUT, PENNIES, TWO, WIN, are_prices_above_by_sums,
+    are_prices_by_sums, disobedience, games_for, hunts, is_outcome_by_sums, is_public_by_sums, odd_games, of, places,
+    pull_by_sums, random_chances, random_game, random_table_of, sizes_of, sum_of, table_by, weighed,
 )
 from persuasion import design
 from persuasion.design import are_prices, are_public_prices, best_private, best_public, bring, public_bar
@@ -19,11 +19,6 @@ from samples import (
 )
 
 TINY = Fraction(1, 10 ** 30)
-SIX, DEUCE, SEVEN, NONE = ((6, 1),), ((2, 1),), ((7, 1),), (NIL,)
-DARE = (((SIX, DEUCE), (SEVEN, NONE)), ((SIX, SEVEN), (DEUCE, NONE)), ((((12, 1),), ((9, 1),)), (((9, 1),), NONE)))
-WIN, LOSE = (ONE,), (LESS,)
-PENNIES = (((WIN, LOSE), (LOSE, WIN)), ((LOSE, WIN), (WIN, LOSE)), ((NONE, NONE), (NONE, NONE)))
-BOTH = ((WIN, NONE), (NONE, NONE))
 STEADY = (((NIL, NIL), (NIL, NIL)),) * 2
 
 
@@ -33,26 +28,6 @@ def is_obedient_by_sums(game, prior, outcome):
 
 def is_obedient_in_public(game, prior, outcome):
     return is_outcome_by_sums(game, prior, outcome) and is_public_by_sums(game, outcome)
-
-
-def hunts(chance, sizes):
-    """A game in which the second receiver gains just what the first one loses."""
-    pays = random_table_of(chance, sizes, 4, 3)
-    return (pays, table_by(sizes, lambda *place: -of(pays, place)), random_table_of(chance, sizes))
-
-
-def odd_games(seed):
-    """Games with actions that pay alike, with nothing to gain, of one receiver's hunt, with a prior each."""
-    chance, out = random.Random(seed), []
-    for sizes in ALL_SIZES:
-        prior = random_chances(chance, sizes[2])
-        still = table_by(sizes, lambda a, b, s: 0)
-        alike = random_game(chance, sizes)
-        alike = tuple(told[:-1] + told[:1] for told in alike) if sizes[0] > 1 else alike
-        for game in (hunts(chance, sizes), alike, (still, still, alike[2]), (alike[0], alike[1], still)):
-            out.append((game, prior))
-        out.append((random_game(chance, sizes, 1, 1), prior))
-    return out
 
 
 def game_apart(setting, mate):

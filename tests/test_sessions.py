@@ -1,5 +1,7 @@
 """The sessions of the document, answer by answer, as they stand there."""
 
+import ast
+import importlib
 import unittest
 
 from persuasion import errors
@@ -118,6 +120,41 @@ raises InvalidText(1)
 ('acquit', 'convict', 'defer')
 >>> undone(book)
 raises NothingToUndo()
+
+>>> from persuasion.pictures import drawing, gains, strip, triangle
+>>> [strip(court, 10), gains(court, 10), drawing(court).split("\n")[1:]]
+['00000111111', '.++++......', ['<line x1="0" y1="200" x2="150" y2="200"/>', '<line x1="150" y1="0" x2="300" y2="0"/>', '<polyline points="0,200 150,0 300,0"/>', '</svg>']]
+>>> triangle(court, 3)
+raises Unfit(2)
+
+>>> from persuasion.console import fresh_console, said, told_all
+>>> lines = ("sheet states innocent guilty ; action acquit 1 0 0 0 ; action convict 0 1 1 1 ; prior start 7/10 3/10", "choice start", "value start", "roof start", "helps start", "cheap start", "never", "disclosed", "strip 4", "worth convict innocent 2", "roof start", "undo", "strike nobody", "corners", "triangle 3")
+>>> told_all(fresh_console(), lines)[1]
+('2 states, 2 actions, 1 priors', 'acquit', '0', '3/5', 'yes', '0', 'no', 'yes', '00111', 'anew: start', '9/10', 'done', 'does not fit', '0 1\n1/2 1/2\n1 0', 'no picture')
+>>> [said(fresh_console(), "never")[1], said(fresh_console(), "sheet states a")[1], said(fresh_console(), "strip x")[1]]
+['no sheet', 'wrong at 0', 'not understood']
+
+>>> from persuasion.checker import accepts
+>>> sterner = ("worth", 1, 0, (2, 1))
+>>> [accepts(("choice", court, (half, half), 1), ()), accepts(("same roof", court, ("states", (1, 0)), prior), (pair, led_pair(court, ("states", (1, 0)), prior, pair))), accepts(("other roof", court, sterner, prior), (pair, any_pair(behind(court, sterner), prior))), accepts(("same roof", court, ("strike", 2), prior), (pair, pair)), accepts("choice", ())]
+[True, True, True, False, False]
+>>> known = ((nil, nil), (one, nil))
+>>> [accepts(("split", court, prior, best, (3, 5)), ()), accepts(("cheap", court, prior, nil), (((one, prior),), ((one, nil),))), accepts(("roof at", court, prior, (3, 5)), (best, steep, known)), accepts(("above", court, steep), known), accepts(("not above", court, (nil, one)), (half, half))]
+[True, True, True, True, True]
+>>> [accepts(("never helps", court), ()), accepts(("not obedient", calls, (third, more), (((nil, third), out), (out, (third, third)))), (1, 1, 0)), accepts(("can be brought", dare, (one,), ((both, half),)), ((((1, 2),), ((1, 4),)), (((1, 4),), ((0, 1),))))]
+[False, True, True]
+
+>>> from persuasion.certificates import certify_change, certify_choice, certify_read, certify_roof, certify_roofs
+>>> [certify_choice(court, prior)[0][3], certify_change(court, ("strike", 2))[0][0], certify_roofs(court, sterner, prior)[0][0], certify_roofs(court, ("scale", (2, 1), (one, nil)), prior)[0][0], certify_read("states\n"), certify_roof(court, prior)[0][3]]
+[0, 'no change', 'other roof', 'same roof', (('not read', 'states\n', 0), ()), (3, 5)]
+>>> from persuasion.certificates import certify_all_told, certify_bring, certify_cheap, certify_disclosed, certify_never, certify_obedient, certify_private, certify_public
+>>> [certify_cheap(court, prior)[0][3], certify_disclosed(court)[0][0], certify_disclosed(rivals)[0][0], certify_never(court)[0][0], certify_all_told(friend)[0][0]]
+[(0, 1), 'disclosed', 'not disclosed', 'helps at', 'all told best']
+>>> [certify_obedient(calls, (third, more), (((nil, third), out), (out, (third, third))))[0][0], certify_private(dare, (one,))[0][3], certify_public(pennies, (one,))[0][0], certify_bring(dare, (one,), ((both, half),))[0][0]]
+['not obedient', (21, 2), 'no public', 'can be brought']
+>>> claim, paper = certify_roof(court, prior)
+>>> accepts(claim, paper)
+True
 '''
 
 
@@ -151,8 +188,16 @@ class SessionsTest(unittest.TestCase):
                 else:
                     self.assertEqual(repr(eval(statement, names)), told)
 
+    def test_each_module_defines_what_is_imported(self):
+        told = [ast.parse(statement).body[0] for statement, _ in steps() if statement.startswith("from ")]
+        self.assertEqual(len(told), 18)
+        for node in told:
+            module = importlib.import_module(node.module)
+            for part in node.names:
+                self.assertEqual(getattr(module, part.name).__module__, node.module)
+
     def test_all_are_asked(self):
-        self.assertEqual(len([told for _, told in steps() if told is not None]), 34)
+        self.assertEqual(len([told for _, told in steps() if told is not None]), 45)
 
 
 if __name__ == "__main__":
