@@ -317,6 +317,7 @@ class HandTest(CheckerCase):
         self.assert_accepts(False, ("cheap", COURT, PRIOR, ONE), (ALONE, ()))
         self.assert_accepts(False, ("cheap", COURT, PRIOR, HALF), (ALONE, ((ONE, NIL),)))
         self.assert_accepts(False, ("cheap", IDLE, PRIOR, NIL), (ALONE, ((ONE, NIL),)))
+        self.assert_accepts(False, ("cheap", (COURT[0], table([0, 5], [0, 7])), PRIOR, NIL), (ALONE, ()))
         three = (table([1, 0], [0, 1], [0, 0]), table([0, 0], [1, 1], [2, 2]))
         self.assert_accepts(True, ("cheap", three, PRIOR, NIL), (ALONE, ((ONE, NIL), (NIL, NIL))))
         self.assert_accepts(False, ("cheap", three, PRIOR, NIL), (ALONE, ((NIL, NIL), (ONE, NIL))))
@@ -362,11 +363,13 @@ class HandTest(CheckerCase):
             less = tuple(side[:3] for side in setting)
             if len(mix) == 4 and mix[3] == NIL:
                 self.assert_accepts(is_so, ("not disclosed", less), ((0, 1), gains + (("beaten", mix[:3]),)))
+                self.assert_accepts(False, ("not disclosed", less), ((0, 1), gains + (("Beaten", mix[:3]),)))
 
     def test_roofs(self):
         claim = ("roof at", COURT, PRIOR, (3, 5))
         for wrong in (
-            (BEST, STEEP), (BEST, STEEP, KNOWN, KNOWN), (BEST, (ONE, ONE), KNOWN), (BEST, STEEP, STILL), (ALONE,
+            (BEST, STEEP), (BEST, STEEP, KNOWN, KNOWN), (BEST, (ONE, ONE), KNOWN), (BEST, (ONE, ONE), STILL), (BEST,
+            STEEP, STILL), (ALONE,
             STEEP, KNOWN),
             (BEST[::-1], STEEP, KNOWN), (STEEP, BEST, KNOWN), (BEST, (NIL, TWO, NIL), KNOWN), (BEST, [NIL, TWO], KNOWN),
             (BEST, (NIL, (2, 1)), ((NIL, NIL), (ONE, LESS))), (BEST, ((6, 7), NIL), KNOWN),
@@ -435,6 +438,7 @@ class HandTest(CheckerCase):
             self.assert_accepts(False, claim, wrong)
         self.assert_accepts(False, ("obedient", CALLS, CALLS_PRIOR, BEYOND), ())
         self.assert_accepts(False, ("not obedient", CALLS, CALLS_PRIOR, KEPT), (1, 1, 0))
+        self.assert_accepts(False, ("not obedient", CALLS[:2] + CALLS[1:2], CALLS_PRIOR, BEYOND), (2, 1, 0))
         both = (((OUT,), (OUT,)), (((ONE, ONE),), ((ONE, ONE),)), ((OUT,), (OUT,)))
         self.assert_accepts(False, ("not obedient", both, CALLS_PRIOR, (((THIRD, MORE),), (OUT,))), (0, 0, 1))
         several = (((OUT,), ((ONE, ONE),), ((TWO, TWO),)), ((OUT,),) * 3, ((OUT,),) * 3)
@@ -481,12 +485,16 @@ class HandTest(CheckerCase):
         for wishes in wrongs + (None,):
             self.assert_accepts(False, ("can be brought", DARE, (ONE,), wishes), JUST)
         self.assert_accepts(True, ("can be brought", DARE, (ONE,), ((BOTH, HALF),) * 4), JUST)
+        self.assert_accepts(False, ("can be brought", DARE, (ONE,), ((BOTH, HALF),) * 5), JUST)
         self.assert_accepts(False, ("can be brought", DARE, (ONE,), ((BOTH, HALF),)), ((NONE, WIN), (NONE, NONE)))
         self.assert_accepts(False, ("can be brought", DARE, (ONE,), ((BOTH, HALF),)), ((WIN, NONE), (NONE, NONE)))
         claim = ("cannot be brought", DARE, (ONE,), ((BOTH, (3, 5)),))
         right = (row(1), row("1/2"), ((row(0, "1/4"), row(0, 0)),) * 2)
         self.assert_accepts(True, claim, right)
         self.assert_accepts(True, claim, (row(2), row(1), ((row(0, "1/2"), row(0, 0)),) * 2))
+        for many in (2, 3, 4, 5):
+            told = (row(1, *[0] * (many - 1)),) + right[1:]
+            self.assert_accepts(many < 5, ("cannot be brought", DARE, (ONE,), ((BOTH, (3, 5)),) * many), told)
         for wrong in (
             (row(0), row("1/2"), right[2]), (row(-1), row("1/2"), right[2]), (row(1), row("3/5"), right[2]),
             (row(1), row("2/5"), right[2]), (row(1, 0), row("1/2"), right[2]), ((), row("1/2"), right[2]), right[:2],
